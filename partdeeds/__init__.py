@@ -1,0 +1,1 @@
+"""Partdeeds: things put together of parts of deeds."""
