@@ -1,10 +1,11 @@
-"""Bodies: what they are, how they are written, and what they call."""
+"""Bodies: what they are, and what they call."""
 
 from partdeeds.names import CELL_NAMES, DEED_NAMES
 from partdeeds.nests import size_of
+from partdeeds.worths import is_number
 
 MOST_WORDS = 60
-GREATEST = 99
+GREATEST_IN_BODIES = 99
 
 BODY_ARMS = {
     "number": ("number",),
@@ -37,17 +38,10 @@ def body_arms(word):
     return BODY_ARMS.get(word)
 
 
-def is_number(worth, greatest):
-    """Tell whether it is a number, no truth, from -greatest to greatest."""
-    if isinstance(worth, bool) or not isinstance(worth, int):
-        return False
-    return -greatest <= worth <= greatest
-
-
 def fits_body(sort, arm):
     """Tell whether an arm, which is no body, is of this sort."""
     if sort == "number":
-        return is_number(arm, GREATEST)
+        return is_number(arm, GREATEST_IN_BODIES)
     if sort == "truth":
         return isinstance(arm, bool)
     if sort == "cell":
@@ -63,14 +57,6 @@ def is_body(body):
 def bodies_in(body):
     """Tell those arms of a body that are bodies, in turn."""
     return [arm for arm in body[1:] if isinstance(arm, tuple)]
-
-
-def written_body(body):
-    """Tell a body's text: words with one blank between, each ahead of its arms."""
-    words = [body[0]]
-    for arm in body[1:]:
-        words.append(written_body(arm) if isinstance(arm, tuple) else str(arm))
-    return " ".join(words)
 
 
 def called_in(body):

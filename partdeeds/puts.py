@@ -5,7 +5,8 @@ the second has for each cell the list of its kinds, none twice. No step changes
 the dicts or lists of another one.
 """
 
-from partdeeds.bodies import called_in, renamed_body, written_body
+from partdeeds.bodies import called_in, renamed_body
+from partdeeds.nests import written_nest
 from partdeeds.parts import calls_of
 from partdeeds.shelves import check_shelf, check_tree
 
@@ -104,4 +105,4 @@ def put_together(shelf, tree):
 
 def form_order(form):
     """Tell that by which the forms of one deed are put in order."""
-    return (form[0], written_body(form[3]))
+    return (form[0], written_nest(form[3]))

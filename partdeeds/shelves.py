@@ -36,6 +36,17 @@ def check_shelf(shelf):
         raise BadShelf("a name twice")
 
 
+def named_in(tree):
+    """Tell the list of the parts' names in a tree."""
+    named = []
+    for sort, arm in zip(TREE_ARMS[tree[0]], tree[1:]):
+        if sort == "part":
+            named.append(arm)
+        if sort == "nest":
+            named.extend(named_in(arm))
+    return named
+
+
 def check_tree(shelf, tree):
     """Refuse what is no tree over the shelf, which is one."""
     names = [part[0] for part in shelf]

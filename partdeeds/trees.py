@@ -1,6 +1,7 @@
 """Trees: what comes of putting together."""
 
 from partdeeds.puts import form_order, put_together
+from partdeeds.wants import wants_of
 
 
 def forms(shelf, tree):
@@ -9,28 +10,10 @@ def forms(shelf, tree):
     return [(deed, sorted(deeds[deed], key=form_order)) for deed in sorted(deeds)]
 
 
-def needs_of(deeds):
-    """Tell the list of (deed, need) for each need of each form of each deed."""
-    return [(deed, need) for deed in deeds for form in deeds[deed] for need in form[4]]
-
-
-def all_fit(need, rows):
-    """Tell whether all these forms take and tell what is needed."""
-    return all([form[1:3] == need[1:] for form in rows])
-
-
-def several(rows):
-    """Tell the rising list of the keys under which there is more than one row."""
-    return sorted([key for key in rows if len(rows[key]) > 1])
-
-
 def wanting(shelf, tree):
     """Tell (clashes, lacks, unfit, cells), all empty if the tree is whole."""
     deeds, cells = put_together(shelf, tree)
-    needed = needs_of(deeds)
-    lacks = sorted({need[0] for deed, need in needed if need[0] not in deeds})
-    unfit = sorted({(deed, need[0]) for deed, need in needed if not all_fit(need, deeds.get(need[0], []))})
-    return several(deeds), lacks, unfit, several(cells)
+    return wants_of(deeds, cells)
 
 
 def same_rows(one, other):

@@ -3,6 +3,7 @@
 import unittest
 
 from partdeeds.errors import BadPart
+from partdeeds.notes import written
 from partdeeds.parts import right
 from tests.samples import ARGUMENT, EMPTY, ONE, TRUE, ask, call, deed, nots, part, sums
 
@@ -19,9 +20,10 @@ def deep(many):
 
 class Refusals(unittest.TestCase):
     def refused(self, wrong, why):
-        with self.assertRaises(BadPart) as told:
-            right(wrong)
-        self.assertEqual(told.exception.why, why, wrong)
+        for ask in (right, written):
+            with self.assertRaises(BadPart) as told:
+                ask(wrong)
+            self.assertEqual(told.exception.why, why, wrong)
 
     def accepted(self, good):
         self.assertIn(right(good), (None, "a", "b", "c", "d", "e", "f", "g", "h"))

@@ -3,11 +3,10 @@
 import unittest
 
 from partdeeds.parts import right
-from tests.samples import ARGUMENT, EMPTY, ONE, TRUE, ask, call, deed, part, sums
+from tests.samples import ARGUMENT, CELLS, EMPTY, ONE, TRUE, ask, call, deed, part, sums
 
 KINDS = ("number", "truth", "list")
 ASKS = (ask("b", "number", "truth"), ask("c", "list", "number"), ask("d", "truth", "list"))
-CELLS = (("p", "number"), ("q", "truth"), ("r", "list"))
 OF_KIND = {"number": ONE, "truth": TRUE, "list": EMPTY}
 
 # For words of bodies alone: the kinds of their arms, and their own.

@@ -3,6 +3,10 @@
 import unittest
 
 from partdeeds.errors import BadPart, BadShelf, BadTree
+from partdeeds.flats import flat
+from partdeeds.givers import givers
+from partdeeds.notes import read_tree, written_tree
+from partdeeds.things import Thing, tried
 from partdeeds.trees import alike, forms, parted, wanting
 from tests.samples import bush, chain, deed, of, part
 
@@ -13,10 +17,16 @@ NO_TREE = ("part", "X")
 
 class Refusals(unittest.TestCase):
     def refused(self, error, shelf, tree, why=None):
-        """Each that takes a shelf and a tree refuses these, the others' first tree ahead of the second."""
-        for ask in (lambda: forms(shelf, tree), lambda: wanting(shelf, tree),
-                    lambda: alike(shelf, tree, NO_TREE), lambda: parted(shelf, tree, NO_TREE),
-                    lambda: alike(shelf, tree, tree), lambda: parted(shelf, tree, tree)):
+        """Each that takes a shelf and a tree refuses these, ahead of all that is handed in behind."""
+        asks = [lambda: forms(shelf, tree), lambda: wanting(shelf, tree),
+                lambda: alike(shelf, tree, NO_TREE), lambda: parted(shelf, tree, NO_TREE),
+                lambda: alike(shelf, tree, tree), lambda: parted(shelf, tree, tree),
+                lambda: flat(shelf, tree, "A"), lambda: Thing(shelf, tree),
+                lambda: tried(shelf, tree, "h", 1000), lambda: tried(shelf, tree, "a", 1),
+                lambda: givers(shelf, tree), lambda: written_tree(shelf, tree)]
+        if error is not BadTree:
+            asks += [lambda: read_tree(shelf, ""), lambda: read_tree(shelf, "part A")]
+        for ask in asks:
             with self.assertRaises(error) as told:
                 ask()
             if why is not None:
